@@ -1,0 +1,1 @@
+"""Upwords: words read from each place of a tree toward its root."""
