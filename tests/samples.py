@@ -53,32 +53,21 @@ def again(many):
         0 if k % 4 == 0 else 1 + k - k % 4 + bough[k % 4] for k in range(many - 1))
 
 
-def any_shape(many, seed):
+def any_shape(many, seed, deepest=60):
     numbers = drawn(seed)
     ups = [-1]
     for place in range(1, many):
         chain = [place - 1]
         while ups[chain[-1]] != -1:
             chain.append(ups[chain[-1]])
-        ups.append(chain[next(numbers) % len(chain)])
-    return tuple(ups)
-
-
-def low_shape(many, seed):
-    """Nothing deeper than three."""
-    numbers = drawn(seed)
-    ups = [-1]
-    for place in range(1, many):
-        chain = [place - 1]
-        while ups[chain[-1]] != -1:
-            chain.append(ups[chain[-1]])
-        ups.append(chain[-3:][next(numbers) % len(chain[-3:])])
+        near_root = chain[-deepest:]
+        ups.append(near_root[next(numbers) % len(near_root)])
     return tuple(ups)
 
 
 def shapes(many):
     return (path(many), star(many), comb(many), comb_behind(many), halved(many), again(many),
-            any_shape(many, many), any_shape(many, many + 100), low_shape(many, many))
+            any_shape(many, many), any_shape(many, many + 100), any_shape(many, many, 3))
 
 
 def lettered(many, letters, seed):

@@ -8,5 +8,9 @@ def is_whole(thing):
     return isinstance(thing, int) and not isinstance(thing, bool)
 
 
+def is_number_below(thing, behind):
+    return is_whole(thing) and 0 <= thing < behind
+
+
 def is_letters(thing):
     return isinstance(thing, str) and all([sign in LETTERS for sign in thing])
