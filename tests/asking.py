@@ -18,16 +18,21 @@ class Asking(unittest.TestCase):
         self.assertIs(type(value), str)
 
     def assert_own(self, asked, *given):
-        """A told list is the asker's own, and what was given stays as it was."""
+        """A told list or dict is the asker's own, and what was given stays as it was."""
         kept = copy.deepcopy(given)
         told = asked(*given)
         once = copy.deepcopy(told)
-        for found in lists_in(told):
-            found.append("more")
-            found.reverse()
+        found = lists_in(told)
+        self.assertEqual(len({id(part) for part in found}), len(found))
+        for part in found:
+            if isinstance(part, dict):
+                part["more"] = 0
+            else:
+                part.append("more")
+                part.reverse()
         self.assertEqual(asked(*given), once)
-        for found in lists_in(told):
-            found.clear()
+        for part in found:
+            part.clear()
         self.assertEqual(asked(*given), once)
         self.assertEqual(given, kept)
         self.assertIsNot(asked(*given), told)
@@ -43,6 +48,9 @@ class Asking(unittest.TestCase):
 
 
 def lists_in(told):
+    """All lists and dicts in what was told."""
+    if isinstance(told, dict):
+        return [told] + [inner for part in told.values() for inner in lists_in(part)]
     if isinstance(told, list):
         return [told] + [inner for part in told for inner in lists_in(part)]
     if isinstance(told, tuple):
@@ -51,4 +59,9 @@ def lists_in(told):
 
 
 def is_plain(thing):
-    return isinstance(thing, (int, str, tuple, list, dict))
+    """Of what can be copied and held side by side, in all its parts."""
+    if isinstance(thing, (tuple, list)):
+        return all(is_plain(part) for part in thing)
+    if isinstance(thing, dict):
+        return all(is_plain(part) for part in thing.values())
+    return thing is None or isinstance(thing, (int, str))

@@ -131,6 +131,18 @@ def small_trees(most):
     return found
 
 
+def words_about(words):
+    """Read ones, whole ones, and such as are read nowhere: below, between and above."""
+    found = {"": True, "a" * 60: True, "z" * 60: True, "z" * 61: True, ALL_LETTERS: True}
+    for word in words[:3] + words[len(words) // 2:len(words) // 2 + 2] + words[-3:]:
+        for length in (1, 2, len(word) // 2, len(word) - 1, len(word)):
+            begun = word[:length]
+            for tried in (begun, begun + "a", begun + "m", begun + "z", begun[:-1] + "a", begun[:-1] + "z",
+                          "b" + begun, begun[1:]):
+                found[tried] = True
+    return list(found)
+
+
 class Thing:
     pass
 

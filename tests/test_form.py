@@ -179,6 +179,36 @@ class Form(unittest.TestCase):
             if isinstance(node, ast.Call) and isinstance(node.func, ast.Attribute):
                 self.assertIn(node.func.attr, METHODS + own, where)
 
+    def test_no_name_is_a_method_here_and_a_value_there(self):
+        methods, values = {}, {}
+        for where, node in self.each_node():
+            if isinstance(node, ast.ClassDef):
+                methods.update({part.name: where for part in node.body if isinstance(part, ast.FunctionDef)})
+            if isinstance(node, ast.Attribute) and isinstance(node.ctx, ast.Store):
+                values[node.attr] = where
+        self.assertEqual(sorted(set(methods) & set(values)), [])
+        for name in values:
+            for kind in (str, int, list, dict, set, bytes):
+                self.assertFalse(hasattr(kind, name), values[name])
+
+    def test_powers_have_a_written_exponent(self):
+        for where, node in self.each_node():
+            if isinstance(node, (ast.BinOp, ast.AugAssign)) and isinstance(node.op, ast.Pow):
+                exponent = node.right if isinstance(node, ast.BinOp) else node.value
+                self.assertIn(getattr(exponent, "value", None), range(65), where)
+
+    def test_what_is_walked_is_not_changed(self):
+        changing = "append clear extend insert pop remove reverse setdefault update".split()
+        for where, node in self.each_node():
+            if isinstance(node, ast.For):
+                walked = {part.id for part in ast.walk(node.iter) if isinstance(part, ast.Name)}
+                for part in [inner for line in node.body for inner in ast.walk(line)]:
+                    if isinstance(part, ast.Call) and isinstance(part.func, ast.Attribute):
+                        if part.func.attr in changing and isinstance(part.func.value, ast.Name):
+                            self.assertNotIn(part.func.value.id, walked, where)
+                    if isinstance(part, ast.Subscript) and isinstance(part.ctx, ast.Store):
+                        self.assertNotIn(getattr(part.value, "id", None), walked, where)
+
     def test_no_local_is_called_like_a_class_or_an_import(self):
         for file in files():
             tree = parsed(file)

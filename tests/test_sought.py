@@ -10,22 +10,9 @@ from upwords.sought import (both_read, how_many, longest_beginning, longest_end,
 from upwords.written import read_tree
 
 
-def some_words(tree):
-    """Read ones, whole ones, and such as are read nowhere: below, between and above."""
-    found = {"": True, "a" * 60: True, "z" * 60: True, "z" * 61: True, samples.ALL_LETTERS: True}
-    words = naive.words(tree)
-    for word in words[:3] + words[len(words) // 2:len(words) // 2 + 2] + words[-3:]:
-        for length in (1, 2, len(word) // 2, len(word) - 1, len(word)):
-            begun = word[:length]
-            for tried in (begun, begun + "a", begun + "m", begun + "z", begun[:-1] + "a", begun[:-1] + "z",
-                          "b" + begun, begun[1:]):
-                found[tried] = True
-    return list(found)
-
-
 def trees_and_words():
     for tree in samples.few_trees():
-        yield tree, some_words(tree)
+        yield tree, samples.words_about(naive.words(tree))
     texts = samples.all_texts("abc", 4)
     for tree in samples.small_trees(4):
         yield tree, texts

@@ -1,6 +1,7 @@
 """What several files ask of a thing before they trust it."""
 
 LETTERS = "abcdefghijklmnopqrstuvwxyz"
+FIGURES = "0123456789"
 
 
 def is_whole(thing):
@@ -14,3 +15,11 @@ def is_number_below(thing, behind):
 
 def is_letters(thing):
     return isinstance(thing, str) and all([sign in LETTERS for sign in thing])
+
+
+def is_letter(thing):
+    return is_letters(thing) and len(thing) == 1
+
+
+def is_figures(thing):
+    return isinstance(thing, str) and thing != "" and all([sign in FIGURES for sign in thing])

@@ -18,10 +18,10 @@ def ranks_of(tree):
 
 def alike_of(tree):
     words = sorted(words_of(tree))
-    return [0] + [letters_alike(words[rank - 1], words[rank]) for rank in range(1, len(words))]
+    return [0] + [many_alike(words[rank - 1], words[rank]) for rank in range(1, len(words))]
 
 
-def letters_alike(one, other):
+def many_alike(one, other):
     many = 0
     while many < min(len(one), len(other)) and one[many] == other[many]:
         many += 1

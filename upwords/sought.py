@@ -2,13 +2,16 @@
 
 from upwords.errors import NoNumber
 from upwords.kinds import is_number_below
-from upwords.orders import letters_alike, order_of
+from upwords.orders import many_alike, order_of
 from upwords.trees import all_above
 from upwords.words import words_of
 
 
 def stretch_of(tree, word):
-    words = words_of(tree)
+    return stretch_in(words_of(tree), word)
+
+
+def stretch_in(words, word):
     # What begins with a word is no less than it, and less than all else
     # that is greater: so it stands straight behind what is less.
     first = len([other for other in words if other < word])
@@ -35,7 +38,7 @@ def nth_place(tree, word, k):
 
 
 def longest_beginning(tree, word):
-    return word[:max([letters_alike(word, other) for other in words_of(tree)])]
+    return word[:max([many_alike(word, other) for other in words_of(tree)])]
 
 
 def longest_end(tree, word):

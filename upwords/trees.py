@@ -63,3 +63,18 @@ def bough_of(tree, place):
 
 def deep_of(tree, place):
     return len(all_above(tree[0], place))
+
+
+def grown_tree(knots, start):
+    ups = []
+    labels = []
+    # Knots that become places, with the place above each, the next one last.
+    waiting = [(start, -1)]
+    while waiting:
+        pair = waiting.pop()
+        knot = knots[pair[0]]
+        place = len(ups)
+        ups.append(pair[1])
+        labels.append(knot[0])
+        waiting.extend([(lower, place) for lower in knot[1][::-1]])
+    return (tuple(ups), "".join(labels))

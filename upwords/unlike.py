@@ -2,7 +2,7 @@
 
 from upwords.errors import NoNumber, NoWord
 from upwords.kinds import is_number_below
-from upwords.orders import alike_of, letters_alike
+from upwords.orders import alike_of, many_alike
 from upwords.sought import count_read, places_of
 from upwords.words import words_of
 
@@ -86,6 +86,6 @@ def closed_words(tree):
         reading = [other for other in words if other.startswith(word)]
         # A letter behind it is read at as many places just where all these
         # go on alike, and they do where the first and the last in order do.
-        if letters_alike(reading[0], reading[-1]) == len(word):
+        if many_alike(reading[0], reading[-1]) == len(word):
             found.append((word, len(reading)))
     return found
