@@ -1,6 +1,7 @@
 """What the promises say, put as plainly as can be, to hold what is told against."""
 
 import functools
+import re
 
 
 def word_at(tree, place):
@@ -105,3 +106,112 @@ def covers(tree, beginning=""):
 
 def price(tree, cover):
     return len(",".join(piece(labels_under(tree, part)) for part in cover))
+
+
+def ways(tree):
+    """The ways down, place by place."""
+    return [word[::-1] for word in words(tree)]
+
+
+def is_trie(tree):
+    """Of a tree."""
+    for place in range(len(tree[1])):
+        letters = [tree[1][lower] for lower in beneath(tree, place)]
+        if letters != sorted(set(letters)):
+            return False
+    return True
+
+
+def trie(ways_of_it):
+    """The trie of just these ways, grown place by place."""
+    ups, labels = [], []
+
+    def grow(way, above):
+        place = len(ups)
+        ups.append(above)
+        labels.append(way[-1])
+        for longer in sorted({other for other in ways_of_it if other[:-1] == way}):
+            grow(longer, place)
+
+    grow(min(ways_of_it, key=len), -1)
+    return tuple(ups), "".join(labels)
+
+
+def items(pattern):
+    """Pairs of what a pattern's items are written as, without the star, and the star or nothing."""
+    return tuple(re.findall(r"([a-z.]|\[[a-z]+\])(\*?)", pattern))
+
+
+@functools.cache
+def taken(item, letter):
+    return re.fullmatch(item, letter) is not None
+
+
+@functools.cache
+def shares_by(parts, word):
+    """Each share tried from the least one on, so that the first that is found is the first."""
+    if not parts:
+        return () if word == "" else None
+    item, star = parts[0]
+    for many in range(len(word) + 1) if star else range(1, 2):
+        if len(word) >= many and all(taken(item, letter) for letter in word[:many]):
+            rest = shares_by(parts[1:], word[many:])
+            if rest is not None:
+                return (many,) + rest
+    return None
+
+
+def shares(pattern, word):
+    return shares_by(items(pattern), word)
+
+
+def fits(pattern, word):
+    return shares(pattern, word) is not None
+
+
+def fitting(tree, pattern):
+    return [word for word in unlike(tree) if fits(pattern, word)]
+
+
+def goes_on(parts, state):
+    """Without a letter."""
+    return [state + 1] if state < len(parts) and parts[state][1] else []
+
+
+def goes_by(parts, state, letter):
+    if state == len(parts) or not taken(parts[state][0], letter):
+        return []
+    return [state] if parts[state][1] else [state + 1]
+
+
+def wanted_marks(tree, parts, marks):
+    """Pairs (place, state): what has to be in marks beside what is."""
+    wanted = [(place, 0) for place in range(len(marks))]
+    for place, states in enumerate(marks):
+        for state in states:
+            wanted.extend((place, other) for other in goes_on(parts, state))
+            if place > 0:
+                wanted.extend((tree[0][place], other) for other in goes_by(parts, state, tree[1][place]))
+    return [(place, state) for place, state in wanted if state not in marks[place]]
+
+
+def marks(tree, pattern):
+    """The least ones: what is wanted is put in, until nothing is."""
+    parts = items(pattern)
+    found = [set() for place in tree[1]]
+    while wanted_marks(tree, parts, found):
+        for place, state in wanted_marks(tree, parts, found):
+            found[place].add(state)
+    return tuple(tuple(sorted(states)) for states in found)
+
+
+def marks_show(tree, pattern, given):
+    """Of a tuple, place by place, of rising tuples of states."""
+    parts = items(pattern)
+    if wanted_marks(tree, parts, given):
+        return False
+    behind = {other for state in given[0] for other in goes_by(parts, state, tree[1][0])}
+    for state in range(len(parts) + 1):
+        if state in behind:
+            behind.update(goes_on(parts, state))
+    return all(len(parts) not in states for states in given + (behind,))

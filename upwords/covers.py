@@ -1,7 +1,7 @@
 """Covers: partings of the words above into pieces, their prices, and floors that show the least."""
 
 from upwords.errors import NoCover
-from upwords.kinds import is_whole
+from upwords.kinds import is_rising, is_whole
 from upwords.rows import kept_order, rows_of
 from upwords.sought import count_read, stretch_in
 from upwords.words import word_above
@@ -62,9 +62,7 @@ def is_cover(tree, thing):
     if not isinstance(thing, tuple) or not all([isinstance(part, str) for part in thing]):
         return False
     contexts = contexts_of(tree)
-    if not all([count_read(contexts, part) > 0 for part in thing]):
-        return False
-    if not all([thing[k - 1] < thing[k] for k in range(1, len(thing))]):
+    if not all([count_read(contexts, part) > 0 for part in thing]) or not is_rising(thing):
         return False
     return all([len([part for part in thing if context.startswith(part)]) == 1 for context in contexts])
 

@@ -23,3 +23,7 @@ def is_letter(thing):
 
 def is_figures(thing):
     return isinstance(thing, str) and thing != "" and all([sign in FIGURES for sign in thing])
+
+
+def is_rising(things):
+    return all([things[k - 1] < things[k] for k in range(1, len(things))])
