@@ -25,5 +25,10 @@ def is_figures(thing):
     return isinstance(thing, str) and thing != "" and all([sign in FIGURES for sign in thing])
 
 
+def is_written_number(thing, most):
+    # With at most so many figures, and none ahead that could be left out.
+    return is_figures(thing) and len(thing) <= most and (thing == "0" or thing[0] != "0")
+
+
 def is_rising(things):
     return all([things[k - 1] < things[k] for k in range(1, len(things))])
